@@ -1,0 +1,141 @@
+package flow_test
+
+import (
+	"testing"
+
+	"sluice/api"
+	"sluice/flow"
+)
+
+// P2, as far as Decode and Encode go.
+
+var (
+	otherTerm = api.Term{And: true, Wide: true, Op: 99, Value: 99}
+	otherPart = api.Part{Type: 77, Prefix: api.Prefix{Bits: 77, Len: 77}}
+)
+
+// roomy: the same rule in lists with spare room, in which something stands already.
+func roomy(r api.Rule) api.Rule {
+	parts := append([]api.Part{}, r.Parts...)
+	for i, p := range parts {
+		l := append([]api.Term{}, p.Terms...)
+		parts[i].Terms = append(l, otherTerm, otherTerm, otherTerm)[:len(p.Terms)]
+	}
+	return api.Rule{Parts: append(parts, otherPart, otherPart)[:len(r.Parts)]}
+}
+
+func checkRoomUntouched(t *testing.T, r, before api.Rule) {
+	t.Helper()
+	if !sameRule(r, before) {
+		t.Errorf("P2: Encode wrote into its rule: %+v, was %+v", r, before)
+	}
+	n := len(r.Parts)
+	for _, p := range r.Parts[n : n+2] {
+		if !samePart(p, otherPart) {
+			t.Errorf("P2: Encode wrote behind the parts: %+v", p)
+		}
+	}
+	for _, p := range r.Parts {
+		n := len(p.Terms)
+		for _, term := range p.Terms[n : n+3] {
+			if term != otherTerm {
+				t.Errorf("P2: Encode wrote behind the terms: %+v", term)
+			}
+		}
+	}
+}
+
+func TestEncodeWritesIntoNothing(t *testing.T) {
+	for _, c := range pairs(t) {
+		r := roomy(c.rule)
+		wantParts(t, r, c.bytes)
+		checkRoomUntouched(t, r, c.rule)
+
+		wrong := copyRule(c.rule)
+		wrong.Parts[len(wrong.Parts)-1].Type = 6
+		r = roomy(wrong)
+		wantNoParts(t, r)
+		checkRoomUntouched(t, r, wrong)
+	}
+}
+
+func TestEncodeKeepsNothing(t *testing.T) {
+	for _, c := range pairs(t) {
+		r := copyRule(c.rule)
+		s, _ := flow.Encode(r)
+		scribble(r)
+		if s != c.bytes {
+			t.Errorf("P2: what Encode answered was changed with its rule: % x, want % x", s, c.bytes)
+		}
+		wantParts(t, c.rule, c.bytes)
+	}
+}
+
+// scribble writes all over the lists of a rule, and over their spare room.
+func scribble(r api.Rule) {
+	for _, p := range r.Parts {
+		scribbleTerms(p.Terms)
+	}
+	for i := range r.Parts[:cap(r.Parts)] {
+		r.Parts[:cap(r.Parts)][i] = otherPart
+	}
+}
+
+func scribbleTerms(l []api.Term) {
+	for i := range l[:cap(l)] {
+		l[:cap(l)][i] = otherTerm
+	}
+}
+
+func TestDecodeListsAreFresh(t *testing.T) {
+	for _, c := range pairs(t) {
+		first, _ := flow.Decode(c.bytes)
+		second, _ := flow.Decode(c.bytes)
+		scribble(first)
+		if !sameRule(second, c.rule) {
+			t.Errorf("P2: what Decode(% x) answered was changed with another answer: %+v", c.bytes, second)
+		}
+		wantRule(t, c.bytes, c.rule)
+	}
+}
+
+func TestDecodeListsOfOneAnswerAreApart(t *testing.T) {
+	// Different numbers of terms, so that the lists have spare room of many sizes.
+	for a := 1; a <= 8; a++ {
+		for b := 1; b <= 8; b++ {
+			want := rule(prefix(1, 0, 0), times(3, a, api.Term{Op: 1}), times(4, b, api.Term{Op: 2}), times(5, a, api.Term{Op: 3}))
+			for i := range want.Parts {
+				r, _ := flow.Decode(bytesAsTold(want))
+				scribbleTerms(r.Parts[i].Terms)
+				for k := range want.Parts {
+					if k != i && !samePart(r.Parts[k], want.Parts[k]) {
+						t.Errorf("P2: part %d of %+v was changed with part %d", k, r, i)
+					}
+				}
+			}
+		}
+	}
+}
+
+func TestDecodeListsGrowApart(t *testing.T) {
+	want := rule(times(3, 3, api.Term{Op: 1}), times(4, 3, api.Term{Op: 2}))
+	r, _ := flow.Decode(bytesAsTold(want))
+	for range 8 {
+		r.Parts[0].Terms = append(r.Parts[0].Terms, otherTerm)
+	}
+	if !samePart(r.Parts[1], want.Parts[1]) {
+		t.Errorf("P2: the port's terms were changed with the protocol's: %+v", r)
+	}
+}
+
+func TestAnswersHangOnArgumentsAlone(t *testing.T) {
+	all := pairs(t)
+	for _, a := range all {
+		for _, b := range all {
+			wantRule(t, a.bytes, a.rule)
+			wantParts(t, b.rule, b.bytes)
+			wantNoRule(t, a.bytes+"\xff")
+			wantNoParts(t, rule(append(append([]api.Part{}, b.rule.Parts...), otherPart)...))
+		}
+	}
+}
