@@ -15,12 +15,9 @@ func TestDecodeTellsTheParts(t *testing.T) {
 	}
 }
 
-func TestDecodeExamplesOfNoRules(t *testing.T) {
-	for _, s := range []string{
-		"", "06", "01", "01 11 00 00 00", "01 08", "01 04 0f", "03 01 06", "03 c1 06", "03 a1 06", "03 91 06",
-		"03 81 06 00", "03 81 06 01 00", "05 91 00 02",
-	} {
-		wantNoRule(t, raw(t, s))
+func TestDecodeNoRules(t *testing.T) {
+	for _, s := range noRules(t) {
+		wantNoRule(t, s)
 	}
 }
 

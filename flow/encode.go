@@ -54,13 +54,10 @@ func isTerm(t api.Term, kind int) bool {
 	if t.Wide && kind == api.Flags {
 		return false
 	}
-	if t.Op < 0 || t.Op > opMarks(kind) {
-		return false
-	}
-	return t.Value >= 0 && t.Value <= maxValue(t.Wide)
+	return isNumber(t.Op, opMarks(kind)) && isNumber(t.Value, maxValue(t.Wide))
 }
 
-// The writers below are handed only what isRule let pass.
+// The writers below are handed only parts of a rule: what isRule let pass, or what Decode answered.
 
 func writePart(p api.Part) string {
 	s := writeNumber(p.Type, 1)

@@ -3,12 +3,6 @@ package flow
 
 import "sluice/api"
 
-// Match tells whether a rule speaks of a packet (P5).
-func Match(s string, h api.Header) (bool, api.Errno) { return false, api.OK }
-
-// Compare tells which of two rules goes first (P6).
-func Compare(a string, b string) (int, api.Errno) { return 0, api.OK }
-
 // Count tells how many cubes a rule has (P7).
 func Count(s string) (int, api.Errno) { return 0, api.OK }
 

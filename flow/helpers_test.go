@@ -2,6 +2,7 @@ package flow_test
 
 import (
 	"encoding/hex"
+	"math/rand"
 	"regexp"
 	"strings"
 	"testing"
@@ -203,5 +204,50 @@ func wantNoParts(t *testing.T, r api.Rule) {
 	t.Helper()
 	if s, e := flow.Encode(r); e != api.ErrRule || s != "" {
 		t.Errorf("P4: Encode(%+v) = % x, %d, want no bytes, %d", r, s, e, api.ErrRule)
+	}
+}
+
+// noRules: bytes that are no rule: the document's examples, and rules with a byte too many or too few.
+func noRules(t *testing.T) []string {
+	l := []string{}
+	for _, s := range []string{
+		"", "06", "01", "01 11 00 00 00", "01 08", "01 04 0f", "03 01 06", "03 c1 06", "03 a1 06", "03 91 06",
+		"03 81 06 00", "03 81 06 01 00", "05 91 00 02", "04 84", "05 84 00", "01 00 01 00", "02 00 01 00", "00",
+		"03 01 06 01 06 01 06 01 06 01 06 01 06 01 06 01 06 81 06",
+	} {
+		l = append(l, raw(t, s))
+	}
+	for _, c := range pairs(t) {
+		l = append(l, c.bytes+"\x00", c.bytes+c.bytes, "\x00"+c.bytes)
+	}
+	return l
+}
+
+// anyRule: a rule with small numbers, so that two of them often speak of the same.
+func anyRule(random *rand.Rand) api.Rule {
+	for {
+		var r api.Rule
+		for kind := 1; kind <= 5; kind++ {
+			if random.Intn(5) >= 2 {
+				continue
+			}
+			if kind <= 2 {
+				length := []int{0, 1, 2, 3, 16}[random.Intn(5)]
+				r.Parts = append(r.Parts, prefix(kind, random.Intn(4)<<14>>(16-length)<<(16-length), length))
+				continue
+			}
+			p := api.Part{Type: kind}
+			for i := range 1 + random.Intn(random.Intn(8)+1) {
+				term := api.Term{And: i > 0 && random.Intn(2) == 0, Op: random.Intn(4), Value: random.Intn(6)}
+				if kind < 5 {
+					term.Op, term.Wide = random.Intn(8), random.Intn(6) == 0
+				}
+				p.Terms = append(p.Terms, term)
+			}
+			r.Parts = append(r.Parts, p)
+		}
+		if len(r.Parts) > 0 {
+			return r
+		}
 	}
 }

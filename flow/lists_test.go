@@ -7,7 +7,7 @@ import (
 	"sluice/flow"
 )
 
-// P2, as far as Decode and Encode go.
+// P2, as far as Decode, Encode, Match and Compare go.
 
 var (
 	otherTerm = api.Term{And: true, Wide: true, Op: 99, Value: 99}
@@ -134,8 +134,14 @@ func TestAnswersHangOnArgumentsAlone(t *testing.T) {
 		for _, b := range all {
 			wantRule(t, a.bytes, a.rule)
 			wantParts(t, b.rule, b.bytes)
+			wantMatch(t, a.bytes, headers[4], matchesAsTold(a.rule, headers[4]))
+			wantMatch(t, b.bytes, headers[5], matchesAsTold(b.rule, headers[5]))
+			wantPlaces(t, a.rule, b.rule)
 			wantNoRule(t, a.bytes+"\xff")
 			wantNoParts(t, rule(append(append([]api.Part{}, b.rule.Parts...), otherPart)...))
+			wantNoMatch(t, a.bytes+"\xff", headers[4], api.ErrForm)
+			wantNoMatch(t, b.bytes, api.Header{Dst: -1}, api.ErrHeader)
+			wantNoOrder(t, a.bytes, b.bytes+"\xff")
 		}
 	}
 }

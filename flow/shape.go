@@ -2,12 +2,11 @@ package flow
 
 import "sluice/api"
 
-// What Decode and Encode both must know of a rule's shape stands here once, so that the two cannot drift apart.
+// What the calls must know alike of a rule's shape stands here once, so that they cannot drift apart.
 
 const (
-	addressBits = 16
-	maxByte     = 255
-	maxWide     = 65535
+	maxByte = 255
+	maxWide = 65535
 )
 
 func hasPrefix(kind int) bool {
@@ -34,15 +33,8 @@ func termMarks(kind int) int {
 	return api.Last | api.And | api.Wide | opMarks(kind)
 }
 
-func isPrefix(p api.Prefix) bool {
-	if p.Len < 0 || p.Len > addressBits {
-		return false
-	}
-	if p.Bits < 0 || p.Bits > maxWide {
-		return false
-	}
-	behind := 1<<(addressBits-p.Len) - 1
-	return p.Bits&behind == 0
+func isNumber(number int, most int) bool {
+	return number >= 0 && number <= most
 }
 
 func prefixBytes(length int) int {
