@@ -1,13 +1,14 @@
 package flow_test
 
 import (
+	"slices"
 	"testing"
 
 	"sluice/api"
 	"sluice/flow"
 )
 
-// P2, as far as Decode, Encode, Match and Compare go.
+// P2, as far as the calls of package flow go.
 
 var (
 	otherTerm = api.Term{And: true, Wide: true, Op: 99, Value: 99}
@@ -128,20 +129,53 @@ func TestDecodeListsGrowApart(t *testing.T) {
 	}
 }
 
+func scribbleTexts(l []string) {
+	for i := range l[:cap(l)] {
+		l[:cap(l)][i] = "other"
+	}
+}
+
+func TestCubesListsAreFresh(t *testing.T) {
+	// From no cubes to 256, so that the lists have spare room of many sizes.
+	for _, s := range []string{"04 80 00", "01 00", "04 03 50 c5 52", "05 80 e0", "05 80 fe", "04 86 00", "05 81 01", "03 86 00 05 81 04"} {
+		other := raw(t, "01 08 0a 05 80 e0")
+		first, _ := flow.Cubes(raw(t, s))
+		second, _ := flow.Cubes(raw(t, s))
+		third, _ := flow.Cubes(other)
+		before, beforeThird := slices.Clone(second), slices.Clone(third)
+		scribbleTexts(first)
+		_ = append(first, "other", "other")
+		if !slices.Equal(second, before) || !slices.Equal(third, beforeThird) {
+			t.Errorf("P2: what Cubes answered was changed with what Cubes(%s) answered: %q, %q", s, second, third)
+		}
+		wantCubes(t, raw(t, s), before)
+		wantCubes(t, other, beforeThird)
+	}
+}
+
 func TestAnswersHangOnArgumentsAlone(t *testing.T) {
 	all := pairs(t)
+	many := raw(t, "03 86 00 05 81 02")
+	var cubes [][]string
 	for _, a := range all {
-		for _, b := range all {
+		l, _ := flow.Cubes(a.bytes)
+		cubes = append(cubes, l)
+	}
+	for _, a := range all {
+		for k, b := range all {
 			wantRule(t, a.bytes, a.rule)
 			wantParts(t, b.rule, b.bytes)
 			wantMatch(t, a.bytes, headers[4], matchesAsTold(a.rule, headers[4]))
 			wantMatch(t, b.bytes, headers[5], matchesAsTold(b.rule, headers[5]))
 			wantPlaces(t, a.rule, b.rule)
+			wantCubes(t, b.bytes, cubes[k])
 			wantNoRule(t, a.bytes+"\xff")
 			wantNoParts(t, rule(append(append([]api.Part{}, b.rule.Parts...), otherPart)...))
 			wantNoMatch(t, a.bytes+"\xff", headers[4], api.ErrForm)
 			wantNoMatch(t, b.bytes, api.Header{Dst: -1}, api.ErrHeader)
 			wantNoOrder(t, a.bytes, b.bytes+"\xff")
+			wantNoCubes(t, a.bytes+"\xff")
+			wantMany(t, many, 512)
 		}
 	}
 }

@@ -21,10 +21,13 @@ func Match(s string, h api.Header) (bool, api.Errno) {
 
 // isHeader looks at port and flags of a later fragment too: they mean nothing there, but must be numbers.
 func isHeader(h api.Header) bool {
-	if !isNumber(h.Dst, maxWide) || !isNumber(h.Src, maxWide) {
-		return false
+	for kind := api.Dst; kind <= api.Flags; kind++ {
+		number, _ := fieldOf(h, kind)
+		if !isNumber(number, maxField(kind)) {
+			return false
+		}
 	}
-	return isNumber(h.Proto, maxByte) && isNumber(h.Port, maxWide) && isNumber(h.Flags, maxByte)
+	return true
 }
 
 func partMatches(p api.Part, h api.Header) bool {

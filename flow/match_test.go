@@ -43,14 +43,18 @@ func matchesAsTold(r api.Rule, h api.Header) bool {
 			fallthrough
 		default:
 			number := []int{h.Proto, h.Port, h.Flags}[p.Type-3]
-			fails := func(term api.Term) bool { return !holdsAsTold(term, p.Type, number) }
-			holds := func(group []api.Term) bool { return !slices.ContainsFunc(group, fails) }
-			if !slices.ContainsFunc(groupsAsTold(p.Terms), holds) {
+			if !someHoldsAsTold(groupsAsTold(p.Terms), p.Type, number) {
 				return false
 			}
 		}
 	}
 	return true
+}
+
+func someHoldsAsTold(groups [][]api.Term, kind, number int) bool {
+	fails := func(term api.Term) bool { return !holdsAsTold(term, kind, number) }
+	holds := func(group []api.Term) bool { return !slices.ContainsFunc(group, fails) }
+	return slices.ContainsFunc(groups, holds)
 }
 
 func groupsAsTold(l []api.Term) [][]api.Term {
