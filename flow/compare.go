@@ -1,6 +1,9 @@
 package flow
 
-import "sluice/api"
+import (
+	"sluice/address"
+	"sluice/api"
+)
 
 // Compare tells which of two rules goes first (P6).
 func Compare(a string, b string) (int, api.Errno) {
@@ -43,7 +46,7 @@ func comparePart(a api.Part, b api.Part) int {
 }
 
 func comparePrefixes(a api.Prefix, b api.Prefix) int {
-	if covers(a, b) || covers(b, a) {
+	if address.Covers(a, b) || address.Covers(b, a) {
 		return lowerFirst(b.Len, a.Len)
 	}
 	return lowerFirst(a.Bits, b.Bits)

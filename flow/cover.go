@@ -1,6 +1,9 @@
 package flow
 
-import "sluice/api"
+import (
+	"sluice/address"
+	"sluice/api"
+)
 
 // block is so many numbers of a field, from first on: size is a power of two, first a multiple of it.
 type block struct {
@@ -20,7 +23,7 @@ func fieldBlocks(r api.Rule, kind int) []block {
 
 func partBlocks(p api.Part, whole block) []block {
 	if hasPrefix(p.Type) {
-		return []block{{first: p.Prefix.Bits, size: bitsBehind(p.Prefix.Len) + 1}}
+		return []block{{first: p.Prefix.Bits, size: address.BitsBehind(p.Prefix.Len) + 1}}
 	}
 	return cover(p.Terms, p.Type, whole)
 }

@@ -1,6 +1,9 @@
 package flow
 
-import "sluice/api"
+import (
+	"sluice/address"
+	"sluice/api"
+)
 
 // Decode reads a rule (P3).
 func Decode(s string) (api.Rule, api.Errno) {
@@ -54,7 +57,7 @@ func readPrefix(s string, at int) (api.Prefix, int, bool) {
 		bits = bits * (maxByte + 1)
 	}
 	prefix := api.Prefix{Bits: bits, Len: length}
-	if !isPrefix(prefix) {
+	if !address.IsPrefix(prefix) {
 		return api.Prefix{}, at, false
 	}
 	return prefix, at + 1 + count, true

@@ -1,6 +1,9 @@
 package flow
 
-import "sluice/api"
+import (
+	"sluice/address"
+	"sluice/api"
+)
 
 // Encode writes a rule (P4).
 func Encode(r api.Rule) (string, api.Errno) {
@@ -27,7 +30,7 @@ func isRule(r api.Rule) bool {
 
 func isPart(p api.Part) bool {
 	if hasPrefix(p.Type) {
-		return len(p.Terms) == 0 && isPrefix(p.Prefix)
+		return len(p.Terms) == 0 && address.IsPrefix(p.Prefix)
 	}
 	if hasTerms(p.Type) {
 		return p.Prefix.Bits == 0 && p.Prefix.Len == 0 && areTerms(p.Terms, p.Type)

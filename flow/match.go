@@ -1,6 +1,9 @@
 package flow
 
-import "sluice/api"
+import (
+	"sluice/address"
+	"sluice/api"
+)
 
 // Match tells whether a rule speaks of a packet (P5).
 func Match(s string, h api.Header) (bool, api.Errno) {
@@ -36,7 +39,7 @@ func partMatches(p api.Part, h api.Header) bool {
 		return false
 	}
 	if hasPrefix(p.Type) {
-		return liesIn(number, p.Prefix)
+		return address.LiesIn(number, p.Prefix)
 	}
 	return someGroupHolds(p.Terms, p.Type, number)
 }
