@@ -3,6 +3,7 @@ package flow
 import (
 	"sluice/address"
 	"sluice/api"
+	"sluice/packet"
 )
 
 // block is so many numbers of a field, from first on: size is a power of two, first a multiple of it.
@@ -12,7 +13,7 @@ type block struct {
 
 // fieldBlocks tells the blocks of the field that parts of a type look at. A rule without such a part takes them all.
 func fieldBlocks(r api.Rule, kind int) []block {
-	whole := block{first: 0, size: maxField(kind) + 1}
+	whole := block{first: 0, size: packet.MaxField(kind) + 1}
 	for _, part := range r.Parts {
 		if part.Type == kind {
 			return partBlocks(part, whole)
@@ -84,7 +85,7 @@ func writeBlocks(blocks []block, kind int) []string {
 // writeBlock goes through the weights of the field's bits: those below the size are free.
 func writeBlock(b block, kind int) string {
 	s := ""
-	for weight := (maxField(kind) + 1) / 2; weight > 0; weight = weight / 2 {
+	for weight := (packet.MaxField(kind) + 1) / 2; weight > 0; weight = weight / 2 {
 		if weight < b.size {
 			s += "*"
 		} else if b.first&weight != 0 {

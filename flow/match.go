@@ -3,6 +3,7 @@ package flow
 import (
 	"sluice/address"
 	"sluice/api"
+	"sluice/packet"
 )
 
 // Match tells whether a rule speaks of a packet (P5).
@@ -11,7 +12,7 @@ func Match(s string, h api.Header) (bool, api.Errno) {
 	if e != api.OK {
 		return false, e
 	}
-	if !isHeader(h) {
+	if !packet.IsHeader(h) {
 		return false, api.ErrHeader
 	}
 	for _, part := range r.Parts {
@@ -22,19 +23,8 @@ func Match(s string, h api.Header) (bool, api.Errno) {
 	return true, api.OK
 }
 
-// isHeader looks at port and flags of a later fragment too: they mean nothing there, but must be numbers.
-func isHeader(h api.Header) bool {
-	for kind := api.Dst; kind <= api.Flags; kind++ {
-		number, _ := fieldOf(h, kind)
-		if !isNumber(number, maxField(kind)) {
-			return false
-		}
-	}
-	return true
-}
-
 func partMatches(p api.Part, h api.Header) bool {
-	number, has := fieldOf(h, p.Type)
+	number, has := packet.Field(h, p.Type)
 	if !has {
 		return false
 	}
@@ -42,23 +32,6 @@ func partMatches(p api.Part, h api.Header) bool {
 		return address.LiesIn(number, p.Prefix)
 	}
 	return someGroupHolds(p.Terms, p.Type, number)
-}
-
-// fieldOf tells the field that parts of a type look at, and whether the header has it.
-func fieldOf(h api.Header, kind int) (int, bool) {
-	switch kind {
-	case api.Dst:
-		return h.Dst, true
-	case api.Src:
-		return h.Src, true
-	case api.Proto:
-		return h.Proto, true
-	case api.Port:
-		return h.Port, !h.Later
-	case api.Flags:
-		return h.Flags, !h.Later
-	}
-	return 0, false
 }
 
 // someGroupHolds goes through the terms once: holds tells of the group begun last whether all its terms so far hold.

@@ -33,14 +33,6 @@ func termMarks(kind int) int {
 	return api.Last | api.And | api.Wide | opMarks(kind)
 }
 
-// maxField tells the greatest number of the field that parts of a type look at.
-func maxField(kind int) int {
-	if kind == api.Proto || kind == api.Flags {
-		return maxByte
-	}
-	return maxWide
-}
-
 func isNumber(number int, most int) bool {
 	return number >= 0 && number <= most
 }

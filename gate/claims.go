@@ -21,16 +21,17 @@ func (g *Gate) Add(peer int, rule string, action int) ([]api.Write, api.Errno) {
 	if !isUpTo(action, api.MaxAction) {
 		return nil, api.ErrAction
 	}
+	before := g.Table()
 	at := placeOfClaim(g.claims, peer, rule)
 	if at < len(g.claims) {
 		g.claims[at].action = action
-		return nil, api.OK
+		return g.writesSince(before), api.OK
 	}
 	if len(g.claims) >= api.MaxRules {
 		return nil, api.ErrFull
 	}
 	g.claims = claimsWith(g.claims, claim{peer: peer, rule: rule, action: action})
-	return nil, api.OK
+	return g.writesSince(before), api.OK
 }
 
 // Remove: a peer takes a rule back (P10).
@@ -43,8 +44,9 @@ func (g *Gate) Remove(peer int, rule string) ([]api.Write, api.Errno) {
 	if at >= len(g.claims) {
 		return nil, api.ErrNone
 	}
+	before := g.Table()
 	g.claims = claimsWithout(g.claims, at)
-	return nil, api.OK
+	return g.writesSince(before), api.OK
 }
 
 // Reset: a peer is gone, and all that it announced (P10).
@@ -52,9 +54,10 @@ func (g *Gate) Reset(peer int) ([]api.Write, api.Errno) {
 	if !isPeer(peer) {
 		return nil, api.ErrPeer
 	}
+	before := g.Table()
 	g.routes = routesOfOthers(g.routes, peer)
 	g.claims = claimsOfOthers(g.claims, peer)
-	return nil, api.OK
+	return g.writesSince(before), api.OK
 }
 
 func checkClaim(peer int, rule string) api.Errno {

@@ -21,12 +21,14 @@ func wantEmptyGate(t *testing.T, c api.Config) {
 	t.Helper()
 	o := caller{t, open(t, c)}
 	o.status()
+	o.table()
 	for peer := range 4 {
 		o.withdraw(peer, prefix(0, 0), api.ErrNone)
 		o.remove(peer, "\x01\x00", api.ErrNone)
 		o.reset(peer, api.OK)
 	}
 	o.status()
+	o.table()
 }
 
 func TestNewCapacity(t *testing.T) {

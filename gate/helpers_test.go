@@ -46,51 +46,75 @@ type caller struct {
 	g *gate.Gate
 }
 
-// errno: P1: with an error there is nothing beside it.
-func (c caller) errno(what string, l []api.Write, e, want api.Errno) {
+// answered: P1: with an error there is nothing beside it, and the table is as it was. P15: without one the writes lead from the table that was to the one that is.
+func (c caller) answered(what string, before []api.Entry, l []api.Write, e, want api.Errno) []api.Write {
 	c.t.Helper()
 	if e != want {
 		c.t.Errorf("%s: %d, want %d", what, e, want)
 	}
-	if e != api.OK && len(l) != 0 {
-		c.t.Errorf("P1: %s: %d, and beside it %+v", what, e, l)
+	after := c.g.Table()
+	if e != api.OK && (len(l) != 0 || !slices.Equal(before, after)) {
+		c.t.Errorf("P1: %s: %d, and beside it %+v; the table was %+v, is %+v", what, e, l, before, after)
 	}
+	if s := faultOf(before, after, l, 30); e == api.OK && s != "" {
+		c.t.Errorf("P15: %s: %s; the table was %+v, is %+v; writes: %+v", what, s, before, after, l)
+	}
+	return l
 }
 
-func (c caller) announce(peer int, p api.Prefix, path int, want api.Errno) {
+func (c caller) announce(peer int, p api.Prefix, path int, want api.Errno) []api.Write {
 	c.t.Helper()
+	before := c.g.Table()
 	l, e := c.g.Announce(peer, p, path)
-	c.errno("P9: Announce", l, e, want)
+	return c.answered("P9: Announce", before, l, e, want)
 }
 
-func (c caller) withdraw(peer int, p api.Prefix, want api.Errno) {
+func (c caller) withdraw(peer int, p api.Prefix, want api.Errno) []api.Write {
 	c.t.Helper()
+	before := c.g.Table()
 	l, e := c.g.Withdraw(peer, p)
-	c.errno("P9: Withdraw", l, e, want)
+	return c.answered("P9: Withdraw", before, l, e, want)
 }
 
-func (c caller) add(peer int, rule string, action int, want api.Errno) {
+func (c caller) add(peer int, rule string, action int, want api.Errno) []api.Write {
 	c.t.Helper()
+	before := c.g.Table()
 	l, e := c.g.Add(peer, rule, action)
-	c.errno("P10: Add", l, e, want)
+	return c.answered("P10: Add", before, l, e, want)
 }
 
-func (c caller) remove(peer int, rule string, want api.Errno) {
+func (c caller) remove(peer int, rule string, want api.Errno) []api.Write {
 	c.t.Helper()
+	before := c.g.Table()
 	l, e := c.g.Remove(peer, rule)
-	c.errno("P10: Remove", l, e, want)
+	return c.answered("P10: Remove", before, l, e, want)
 }
 
-func (c caller) reset(peer int, want api.Errno) {
+func (c caller) reset(peer int, want api.Errno) []api.Write {
 	c.t.Helper()
+	before := c.g.Table()
 	l, e := c.g.Reset(peer)
-	c.errno("P10: Reset", l, e, want)
+	return c.answered("P10: Reset", before, l, e, want)
 }
 
 func (c caller) status(want ...api.Status) {
 	c.t.Helper()
 	if l := c.g.Status(); !slices.Equal(l, want) {
 		c.t.Errorf("P12: Status() = %+v, want %+v", l, want)
+	}
+}
+
+func (c caller) table(want ...api.Entry) {
+	c.t.Helper()
+	if l := c.g.Table(); !slices.Equal(l, want) {
+		c.t.Errorf("P13: Table() = %+v, want %+v", l, want)
+	}
+}
+
+func (c caller) lookup(h api.Header, want int) {
+	c.t.Helper()
+	if n, e := c.g.Lookup(h); n != want || e != api.OK {
+		c.t.Errorf("P14: Lookup(%+v) = %d, %d, want %d", h, n, e, want)
 	}
 }
 

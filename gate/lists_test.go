@@ -81,8 +81,11 @@ func TestErrorsChangeNothing(t *testing.T) {
 	o := busy(t, small)
 	o.states(busyStates...)
 	before := o.g.Status()
+	table := o.g.Table()
 	o.wrongCalls()
+	o.wrongLookups()
 	o.status(before...)
+	o.table(table...)
 	o.sameRoutes()
 }
 
@@ -107,56 +110,114 @@ func TestFullChangesNothing(t *testing.T) {
 	o.sameRoutes()
 }
 
-func TestStatusChangesNothing(t *testing.T) {
+// TestAskingChangesNothing: of Status, Table and Lookup, however often and in whatever order.
+func TestAskingChangesNothing(t *testing.T) {
 	o := busy(t, small)
-	before := o.g.Status()
+	status, table := o.g.Status(), o.g.Table()
 	for range 3 {
-		o.status(before...)
+		o.status(status...)
+		o.lookup(api.Header{Dst: 0x0a01}, 1)
+		o.lookup(api.Header{Dst: 0x0a02}, api.Permit)
+		o.table(table...)
+		o.lookup(api.Header{Dst: 0x0b07, Later: true}, 3)
 	}
 	o.sameRoutes()
 }
 
-// scribbleStatus writes all over a list, and over its spare room.
-func scribbleStatus(l []api.Status) {
+// scribble writes all over a list, and over its spare room.
+func scribble[T any](l []T, other T) {
 	whole := l[:cap(l)]
 	for i := range whole {
-		whole[i] = api.Status{Rule: "other", Peer: 99, Action: 99, State: 99}
+		whole[i] = other
 	}
-	_ = append(l, api.Status{Rule: "other"})
+	_ = append(l, other)
 }
 
-// TestStatusListsAreFresh: with every number of rules, so that the lists have spare room of many sizes.
-func TestStatusListsAreFresh(t *testing.T) {
-	o := permissive(t, 5, 3)
-	for n := range 24 {
-		first, second := o.g.Status(), o.g.Status()
-		before := slices.Clone(second)
-		scribbleStatus(first)
-		if !slices.Equal(second, before) {
-			t.Errorf("P2: a list of Status was changed with another: %+v", second)
+func scribbleStatus(l []api.Status) {
+	scribble(l, api.Status{Rule: "other", Peer: 99, Action: 99, State: 99})
+}
+
+func scribbleTable(l []api.Entry) {
+	scribble(l, api.Entry{Bits: "other", Action: 99, Rule: "other"})
+}
+
+func scribbleWrites(l []api.Write) {
+	scribble(l, api.Write{Kind: 99, Place: 99, Entry: api.Entry{Bits: "other", Action: 99, Rule: "other"}})
+}
+
+// TestListsAreFresh: with every number of rules, so that the lists have spare room of many sizes.
+func TestListsAreFresh(t *testing.T) {
+	for _, room := range []int{5, 128} {
+		o := permissive(t, room, 3)
+		for n := range 24 {
+			first, second := o.g.Status(), o.g.Status()
+			one, two := o.g.Table(), o.g.Table()
+			status, table := slices.Clone(second), slices.Clone(two)
+			scribbleStatus(first)
+			scribbleTable(one)
+			if !slices.Equal(second, status) || !slices.Equal(two, table) {
+				t.Errorf("P2: a list was changed with another: %+v, %+v", second, two)
+			}
+			o.status(status...)
+			o.table(table...)
+			writes := o.add(n%4, string([]byte{1, 8, byte(n * 7 % 24), 5, 0x80, 0xc0}), 7, api.OK)
+			status, table = o.g.Status(), o.g.Table()
+			scribbleStatus(second)
+			scribbleTable(two)
+			scribbleWrites(writes)
+			o.status(status...)
+			o.table(table...)
 		}
-		o.status(before...)
-		rule := string([]byte{1, 8, byte(n * 7 % 24)})
-		o.add(n%4, rule, 7, api.OK)
-		third := o.g.Status()
-		scribbleStatus(second)
-		o.status(third...)
+	}
+}
+
+// TestWritesAreFresh: those of each call, while those of the calls before lie about, and are written into.
+func TestWritesAreFresh(t *testing.T) {
+	o, twin := busy(t, sized(128, 64)), busy(t, sized(128, 64))
+	var lists, copies [][]api.Write
+	for _, call := range []func(c caller) []api.Write{
+		func(c caller) []api.Write { return c.add(0, raw(t, "01 08 0d 05 80 e0"), 99, api.OK) },
+		func(c caller) []api.Write { return c.remove(0, raw(t, "01 08 0d 05 80 e0"), api.OK) },
+		func(c caller) []api.Write { return c.add(3, raw(t, "01 08 09 05 80 e0"), 99, api.OK) },
+		func(c caller) []api.Write { return c.announce(0, prefix(0x0d00, 8), 5, api.OK) },
+		func(c caller) []api.Write { return c.withdraw(0, prefix(0, 0), api.OK) },
+		func(c caller) []api.Write { return c.announce(2, prefix(0, 0), 5, api.OK) },
+		func(c caller) []api.Write { return c.reset(0, api.OK) },
+		func(c caller) []api.Write { return c.reset(2, api.OK) },
+	} {
+		l := call(o)
+		lists = append(lists, l)
+		copies = append(copies, slices.Clone(l))
+		for i := range lists {
+			if !slices.Equal(lists[i], copies[i]) {
+				t.Errorf("P2: the writes of call %d were changed by a later one: %+v, were %+v", i, lists[i], copies[i])
+			}
+		}
+		other := call(twin)
+		if len(l) == 0 && len(lists) != 4 || !slices.Equal(l, other) {
+			t.Errorf("P2: the writes are %+v, those of a gate of the same calls %+v", l, other)
+		}
+		scribbleWrites(other)
+		if !slices.Equal(l, copies[len(copies)-1]) {
+			t.Errorf("P2: the writes were changed with those of another gate: %+v", l)
+		}
+		twin.table(o.g.Table()...)
 	}
 }
 
 // TestOldListsStay: what came out does not follow what happens later.
 func TestOldListsStay(t *testing.T) {
 	o := busy(t, small)
-	l := o.g.Status()
-	before := slices.Clone(l)
+	l, entries := o.g.Status(), o.g.Table()
+	before, table := slices.Clone(l), slices.Clone(entries)
 	o.add(0, raw(t, "01 10 0a 01"), 200, api.OK)
 	o.add(3, raw(t, "01 10 00 00"), 200, api.OK)
 	o.withdraw(2, prefix(2560, 8), api.OK)
 	o.remove(0, raw(t, "01 10 0a 02"), api.OK)
 	o.reset(1, api.OK)
 	o.reset(0, api.OK)
-	if !slices.Equal(l, before) {
-		t.Errorf("P2: a list of Status was changed by later calls: %+v, was %+v", l, before)
+	if !slices.Equal(l, before) || !slices.Equal(entries, table) {
+		t.Errorf("P2: a list was changed by later calls: %+v, %+v, was %+v, %+v", l, entries, before, table)
 	}
 }
 
@@ -166,16 +227,21 @@ func TestGatesStandApart(t *testing.T) {
 	one, two := busy(t, small), busy(t, small)
 	wide := busy(t, sized(128, 64))
 	wide.states(3, 1, 3, 1, 3, 1, 3, 1, 3, 1, 3, 1)
-	before := two.g.Status()
+	before, table := two.g.Status(), two.g.Table()
 	one.add(0, raw(t, "01 10 0a 01"), 200, api.OK)
 	one.announce(3, prefix(2561, 16), 1, api.OK)
 	one.remove(0, raw(t, "01 08 0b"), api.OK)
 	one.wrongCalls()
 	scribbleStatus(one.g.Status())
-	one.reset(0, api.OK)
+	scribbleTable(one.g.Table())
+	scribbleWrites(one.reset(0, api.OK))
 	two.status(before...)
+	two.table(table...)
+	two.lookup(api.Header{Dst: 0x0a01}, 1)
+	one.lookup(api.Header{Dst: 0x0a01}, api.Permit)
 	two.sameRoutes()
 	empty.status()
+	empty.table()
 	empty.withdraw(0, prefix(0, 0), api.ErrNone)
 	wide.states(3, 1, 3, 1, 3, 1, 3, 1, 3, 1, 3, 1)
 }

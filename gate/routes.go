@@ -21,16 +21,17 @@ func (g *Gate) Announce(peer int, p api.Prefix, path int) ([]api.Write, api.Errn
 	if !isUpTo(path, api.MaxPath) {
 		return nil, api.ErrPath
 	}
+	before := g.Table()
 	at := placeOfRoute(g.routes, peer, p)
 	if at < len(g.routes) {
 		g.routes[at].path = path
-		return nil, api.OK
+		return g.writesSince(before), api.OK
 	}
 	if len(g.routes) >= api.MaxRoutes {
 		return nil, api.ErrFull
 	}
 	g.routes = append(g.routes, route{peer: peer, prefix: p, path: path})
-	return nil, api.OK
+	return g.writesSince(before), api.OK
 }
 
 // Withdraw: a peer takes a route back (P9).
@@ -43,8 +44,9 @@ func (g *Gate) Withdraw(peer int, p api.Prefix) ([]api.Write, api.Errno) {
 	if at >= len(g.routes) {
 		return nil, api.ErrNone
 	}
+	before := g.Table()
 	g.routes = routesWithout(g.routes, at)
-	return nil, api.OK
+	return g.writesSince(before), api.OK
 }
 
 func checkRoute(peer int, p api.Prefix) api.Errno {

@@ -9,7 +9,7 @@ import (
 	"sluice/flow"
 )
 
-// told says P9 to P12 a second time, in other words than the program does: what is announced stands in maps, prefixes are texts of bits, and each state is told from its own sentence.
+// told says P9 to P14 a second time, in other words than the program does: what is announced stands in maps, prefixes are texts of bits, and each state is told from its own sentence.
 type told struct {
 	config api.Config
 	routes map[toldRoute]int // the path
@@ -232,4 +232,28 @@ func (m told) status() []api.Status {
 		l = append(l, s)
 	}
 	return l
+}
+
+// toldTable: by what became of the rules.
+func toldTable(status []api.Status) []api.Entry {
+	var l []api.Entry
+	for _, s := range status {
+		if s.State == api.In {
+			cubes, _ := flow.Cubes(s.Rule)
+			for _, cube := range cubes {
+				l = append(l, api.Entry{Bits: cube, Action: s.Action, Rule: s.Rule})
+			}
+		}
+	}
+	return l
+}
+
+// toldLookup asks the rules, not their cubes: one matches a header just if one of its cubes fits.
+func toldLookup(status []api.Status, h api.Header) int {
+	for _, s := range status {
+		if match, _ := flow.Match(s.Rule, h); match && s.State == api.In {
+			return s.Action
+		}
+	}
+	return api.Permit
 }

@@ -7,7 +7,7 @@ import (
 	"sluice/api"
 )
 
-// Many calls in any order, right and wrong ones, on several gates at once: after each the answer and Status are those of the second telling (P1, P2, P9 to P12).
+// Many calls in any order, right and wrong ones, on several gates at once: after each the answer, Status, Table and Lookup are those of the second telling (P1, P2, P9 to P14), and the writes lead from table to table (P15, see answered).
 
 // walker is a gate beside its second telling.
 type walker struct {
@@ -66,6 +66,15 @@ func (w walker) anyRule() string {
 	return pick(w.random, w.rules)
 }
 
+// anyHeader: one to an address next to which the rules' prefixes begin and end.
+func (w walker) anyHeader() api.Header {
+	p := pick(w.random, walkPrefixes)
+	return api.Header{
+		Dst: p.Bits + w.random.Intn(2)&(1<<(16-p.Len)-1), Src: w.random.Intn(65536), Proto: w.random.Intn(2) * 6,
+		Port: 79 + w.random.Intn(5), Flags: w.random.Intn(256), Later: w.random.Intn(4) == 0,
+	}
+}
+
 // step: rules and routes come more often than they go, so that there are many.
 func (w walker) step() {
 	w.t.Helper()
@@ -86,7 +95,11 @@ func (w walker) step() {
 	default:
 		w.caller.reset(peer, w.told.reset(peer))
 	}
-	w.caller.status(w.told.status()...)
+	status := w.told.status()
+	w.caller.status(status...)
+	w.caller.table(toldTable(status)...)
+	h := w.anyHeader()
+	w.caller.lookup(h, toldLookup(status, h))
 }
 
 func walk(l []walker, steps int) {
@@ -119,7 +132,7 @@ func walkRules(t *testing.T) []string {
 }
 
 func TestWalks(t *testing.T) {
-	for seed := range int64(20) {
+	for seed := range int64(8) {
 		walk(walkers(t, seed, []api.Config{
 			small,
 			{Capacity: 1, Budget: 1, Net: [4]int{1, 1, 1, 1}},
@@ -131,7 +144,7 @@ func TestWalks(t *testing.T) {
 
 // TestWalksOfOneNetwork: where nobody speaks for another's addresses, more rules hold, and many are Beaten or Held.
 func TestWalksOfOneNetwork(t *testing.T) {
-	for seed := range int64(20) {
+	for seed := range int64(8) {
 		walk(walkers(t, 100+seed, []api.Config{sized(2, 2), sized(6, 2), sized(24, 16), sized(128, 64)}, walkRules(t)), 800)
 	}
 }
@@ -139,7 +152,7 @@ func TestWalksOfOneNetwork(t *testing.T) {
 // TestWalksOfFewRules: so that the same rule is often that of several peers.
 func TestWalksOfFewRules(t *testing.T) {
 	rules := []string{raw(t, "01 08 0a"), raw(t, "01 10 0a 01"), raw(t, "01 10 0a 01 05 80 e0")}
-	for seed := range int64(20) {
+	for seed := range int64(8) {
 		walk(walkers(t, 200+seed, []api.Config{small, sized(4, 3), sized(5, 3)}, rules), 800)
 	}
 }
